@@ -92,6 +92,19 @@ func TestImports(t *testing.T) {
 	}
 }
 
+// TestAlone: layers that stand on package api alone import no other one.
+func TestAlone(t *testing.T) {
+	for _, name := range []string{"crc", "disk", "alloc"} {
+		for _, file := range sources(t, name) {
+			for _, path := range imports(t, file) {
+				if own, ok := strings.CutPrefix(path, "polder/"); ok && own != "api" && slices.Contains(layers(), own) {
+					t.Errorf("package %s imports %s, and stands on api alone", name, path)
+				}
+			}
+		}
+	}
+}
+
 // TestDirectives: no //go: line and no build tag.
 func TestDirectives(t *testing.T) {
 	for _, name := range layers() {
