@@ -92,13 +92,14 @@ func TestImports(t *testing.T) {
 	}
 }
 
-// TestAlone: layers that stand on package api alone import no other one.
+// TestAlone: layers that stand on package api alone, or on it and a few, import no other one.
 func TestAlone(t *testing.T) {
-	for _, name := range []string{"crc", "disk", "alloc"} {
+	for name, few := range map[string][]string{"crc": nil, "disk": nil, "alloc": nil, "counts": {"codec"}} {
 		for _, file := range sources(t, name) {
 			for _, path := range imports(t, file) {
-				if own, ok := strings.CutPrefix(path, "polder/"); ok && own != "api" && slices.Contains(layers(), own) {
-					t.Errorf("package %s imports %s, and stands on api alone", name, path)
+				own, ok := strings.CutPrefix(path, "polder/")
+				if ok && own != "api" && slices.Contains(layers(), own) && !slices.Contains(few, own) {
+					t.Errorf("package %s imports %s, and stands on api alone, and on %v", name, path, few)
 				}
 			}
 		}
