@@ -94,7 +94,7 @@ func TestImports(t *testing.T) {
 
 // TestAlone: layers that stand on package api alone, or on it and a few, import no other one.
 func TestAlone(t *testing.T) {
-	for name, few := range map[string][]string{"crc": nil, "disk": nil, "alloc": nil, "node": nil, "counts": {"codec"}, "pool": {"codec", "disk", "store", "alloc", "counts"}, "tree": {"codec", "pool", "node"}, "ranges": {"pool", "tree"}, "thin": {"pool", "tree"}, "volumes": {"codec", "pool", "tree", "ranges", "thin"}, "sweep": {"pool", "ranges", "volumes"}, "check": {"counts", "pool", "tree", "volumes"}} {
+	for name, few := range map[string][]string{"crc": nil, "disk": nil, "alloc": nil, "node": nil, "counts": {"codec"}, "pool": {"codec", "disk", "store", "alloc", "counts"}, "tree": {"codec", "pool", "node"}, "ranges": {"pool", "tree"}, "thin": {"pool", "tree"}, "volumes": {"codec", "pool", "tree", "ranges", "thin"}, "sweep": {"pool", "ranges", "volumes"}, "check": {"counts", "pool", "tree", "volumes"}, "pdu": {"crc"}} {
 		for _, file := range sources(t, name) {
 			for _, path := range imports(t, file) {
 				own, ok := strings.CutPrefix(path, "polder/")
